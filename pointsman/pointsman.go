@@ -1,0 +1,47 @@
+// Package pointsman: a reader, a runner and a pointer analysis of small programs: see DOC.md.
+package pointsman
+
+import "pointsman/api"
+
+// Result is what an analysis has found.
+type Result struct{}
+
+// Print tells a program's text as it is written always (P4).
+func Print(text string) (string, api.Errno, int) {
+	tokens, fault, place := readText(text)
+	if fault != api.OK {
+		return "", fault, place
+	}
+	return joinTokens(tokens), api.OK, 0
+}
+
+// Run runs a program (P5).
+func Run(text string, choices string, steps int) (api.Trace, api.Errno, int) {
+	_, fault, place := readText(text)
+	return api.Trace{}, fault, place
+}
+
+// Analyse analyses a program (P6).
+func Analyse(text string) (*Result, api.Errno, int) {
+	_, fault, place := readText(text)
+	return nil, fault, place
+}
+
+// Points tells what a variable may point to (P7).
+func (r *Result) Points(function string, variable string) ([]string, api.Errno) {
+	return nil, api.OK
+}
+
+// Field tells what a field of what a place has made may point to (P7).
+func (r *Result) Field(place int, field int) ([]string, api.Errno) { return nil, api.OK }
+
+// Enters tells which functions a call may enter (P7).
+func (r *Result) Enters(call int) ([]string, api.Errno) { return nil, api.OK }
+
+// Reach tells which functions may be entered (P8).
+func (r *Result) Reach() []string { return nil }
+
+// Alias tells whether two variables may point to the same (P8).
+func (r *Result) Alias(f string, v string, g string, w string) (bool, api.Errno) {
+	return false, api.OK
+}
