@@ -1,14 +1,18 @@
 // Package pointsman: a reader, a runner and a pointer analysis of small programs: see DOC.md.
 package pointsman
 
-import "pointsman/api"
+import (
+	"pointsman/api"
+	"pointsman/plan"
+	"pointsman/runner"
+)
 
 // Result is what an analysis has found.
 type Result struct{}
 
 // Print tells a program's text as it is written always (P4).
 func Print(text string) (string, api.Errno, int) {
-	tokens, fault, place := readText(text)
+	tokens, _, fault, place := readText(text)
 	if fault != api.OK {
 		return "", fault, place
 	}
@@ -17,13 +21,16 @@ func Print(text string) (string, api.Errno, int) {
 
 // Run runs a program (P5).
 func Run(text string, choices string, steps int) (api.Trace, api.Errno, int) {
-	_, fault, place := readText(text)
-	return api.Trace{}, fault, place
+	_, program, fault, place := readText(text)
+	if fault != api.OK {
+		return api.Trace{}, fault, place
+	}
+	return runner.Run(plan.Of(program), choices, steps), api.OK, 0
 }
 
 // Analyse analyses a program (P6).
 func Analyse(text string) (*Result, api.Errno, int) {
-	_, fault, place := readText(text)
+	_, _, fault, place := readText(text)
 	return nil, fault, place
 }
 

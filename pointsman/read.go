@@ -11,19 +11,19 @@ import (
 
 // readText reads a text in the order in which its faults count: none of a
 // later stage is told while an earlier one finds something.
-func readText(text string) ([]scan.Token, api.Errno, int) {
+func readText(text string) ([]scan.Token, syntax.Program, api.Errno, int) {
 	tokens, fault, place := scan.Tokens(text)
 	if fault != api.OK {
-		return nil, fault, place
+		return nil, syntax.Program{}, fault, place
 	}
 	program, fault, place := syntax.Parse(tokens)
 	if fault != api.OK {
-		return nil, fault, place
+		return nil, syntax.Program{}, fault, place
 	}
 	if fault, place := check.Program(program); fault != api.OK {
-		return nil, fault, place
+		return nil, syntax.Program{}, fault, place
 	}
-	return tokens, api.OK, 0
+	return tokens, program, api.OK, 0
 }
 
 func joinTokens(tokens []scan.Token) string {
