@@ -12,6 +12,7 @@ func Of(tree syntax.Program) Program {
 	for _, function := range tree.Functions {
 		program.Functions = append(program.Functions, b.function(function))
 	}
+	program.Places, program.Calls = b.places, b.calls
 	return program
 }
 

@@ -1,9 +1,10 @@
-// Package plan makes of a program's tree what is run: names are numbers there,
-// and the statements of a function stand in one row.
+// Package plan makes of a program's tree what is run and analysed: names are
+// numbers there, and the statements of a function stand in one row.
 package plan
 
 import (
 	"strconv"
+	"strings"
 
 	"pointsman/syntax"
 )
@@ -12,6 +13,8 @@ import (
 type Program struct {
 	Functions []Function
 	Main      int
+	Places    int // how many places there are
+	Calls     int // how many calls through pointers there are
 }
 
 // Function is a function; a variable's number is its place in Variables, where
@@ -63,4 +66,27 @@ func (p Program) Text(target Target) string {
 	}
 	function := p.Functions[target.Owner]
 	return function.Name + "." + function.Variables[target.Index]
+}
+
+// WithoutSteps tells a program with nothing but what answers about it are
+// written by. Names are copied, so that what keeps it does not keep the text.
+func (p Program) WithoutSteps() Program {
+	bare := p
+	bare.Functions = make([]Function, 0, len(p.Functions))
+	for _, function := range p.Functions {
+		bare.Functions = append(bare.Functions, Function{
+			Name:       strings.Clone(function.Name),
+			Variables:  cloneAll(function.Variables),
+			Parameters: function.Parameters,
+		})
+	}
+	return bare
+}
+
+func cloneAll(names []string) []string {
+	clones := make([]string, 0, len(names))
+	for _, name := range names {
+		clones = append(clones, strings.Clone(name))
+	}
+	return clones
 }

@@ -47,6 +47,9 @@ func TestNumbersInTextOrder(t *testing.T) {
 	if !slices.Equal(places, []int{1, 2, 3, 4, 5}) || !slices.Equal(calls, []int{1, 2, 3, 4}) || !slices.Equal(named, []int{0, 1}) {
 		t.Errorf("places %v, calls %v, functions by name %v", places, calls, named)
 	}
+	if program.Places != 5 || program.Calls != 4 {
+		t.Errorf("%d places, %d calls", program.Places, program.Calls)
+	}
 	f := program.Functions[0]
 	if program.Main != 1 || f.Name != "f" || f.Parameters != 2 || !slices.Equal(f.Variables, []string{"a", "b", "c"}) {
 		t.Errorf("main is %d, f is %v", program.Main, f)
@@ -113,6 +116,27 @@ func TestText(t *testing.T) {
 	} {
 		if got := program.Text(target); got != want {
 			t.Errorf("%v: %q, want %q", target, got, want)
+		}
+	}
+}
+
+func TestWithoutSteps(t *testing.T) {
+	program := planOf(t, "fn f(a) { var b; b = new; b = (*a)(); } fn main() { var c; c = new; }")
+	bare := program.WithoutSteps()
+	if bare.Main != 1 || bare.Places != 2 || bare.Calls != 1 || len(bare.Functions) != 2 {
+		t.Fatalf("%v", bare)
+	}
+	for i, function := range bare.Functions {
+		whole := program.Functions[i]
+		if function.Steps != nil || function.Name != whole.Name || function.Parameters != whole.Parameters || !slices.Equal(function.Variables, whole.Variables) {
+			t.Errorf("%v, of %v", function, whole)
+		}
+		if len(whole.Steps) == 0 {
+			t.Errorf("%v has lost its steps", whole)
+		}
+		function.Variables[0] = "z"
+		if whole.Variables[0] == "z" {
+			t.Errorf("the variables of %s are not copied", whole.Name)
 		}
 	}
 }

@@ -18,7 +18,44 @@ func askAll(t *testing.T, text string) {
 		t.Errorf("P1: Print(%.80q) = %q, %d, %d", text, printed, fault, place)
 	}
 	askRun(t, text, text, len(text), fault, place)
-	Analyse(text)
+	askResult(t, text, fault, place)
+}
+
+// askResult asks for the result of a text with that fault, and asks of it what
+// it may tell, and what it has not.
+func askResult(t *testing.T, text string, fault api.Errno, place int) {
+	t.Helper()
+	result, e, at := Analyse(text)
+	if e != fault || at != place {
+		t.Errorf("P3: Analyse(%.80q) answers the error %d at %d, but Print %d at %d", text, e, at, fault, place)
+	}
+	if (result == nil) != (e != api.OK) {
+		t.Errorf("P1: Analyse(%.80q) = %v beside %d", text, result, e)
+	}
+	if result == nil {
+		return
+	}
+	for n := -1; n <= 5; n++ {
+		list, e := result.Field(1, n)
+		lookAtList(t, text, list, e)
+		list, e = result.Field(n, 0)
+		lookAtList(t, text, list, e)
+		list, e = result.Enters(n)
+		lookAtList(t, text, list, e)
+	}
+	for _, name := range []string{"", "a", "p", "x", "main", "é", "\xff", text} {
+		list, e := result.Points("main", name)
+		lookAtList(t, text, list, e)
+		list, e = result.Points(name, name)
+		lookAtList(t, text, list, e)
+	}
+}
+
+func lookAtList(t *testing.T, text string, list []string, fault api.Errno) {
+	t.Helper()
+	if fault != api.OK && fault != api.ErrNone || fault != api.OK && list != nil {
+		t.Errorf("P1: a result of %.80q tells %q beside %d", text, list, fault)
+	}
 }
 
 // askRun asks for a run of a text with that fault.
@@ -77,18 +114,61 @@ func TestP1LongTexts(t *testing.T) {
 
 func TestP1OtherCalls(t *testing.T) {
 	for _, text := range append(corpus(), "", "\xff", strings.Repeat("{", api.MaxText+1)) {
+		_, fault, place := Print(text)
 		for _, n := range []int{math.MinInt, -1, 0, 1, api.Fields, math.MaxInt} {
-			_, fault, place := Print(text)
 			askRun(t, text, "1\xff", n, fault, place)
-			result, fault, _ := Analyse(text)
-			if fault != api.OK {
-				continue
+		}
+		result, fault, _ := Analyse(text)
+		if fault != api.OK {
+			continue
+		}
+		for _, n := range strangeNumbers() {
+			for _, m := range []int{n, -n, 0, 1, 3, 4, math.MinInt, math.MaxInt} {
+				list, fault := result.Field(n, m)
+				lookAtList(t, text, list, fault)
+				list, fault = result.Field(m, n)
+				lookAtList(t, text, list, fault)
 			}
-			result.Field(n, n)
-			result.Enters(n)
-			result.Reach()
-			result.Points("main", "\xff")
-			result.Alias("", "", "main", "a")
+			list, fault := result.Enters(n)
+			lookAtList(t, text, list, fault)
+		}
+		result.Reach()
+		result.Alias("", "", "main", "a")
+	}
+}
+
+// crowd is a program of as many bytes as there may be, in which every field of
+// every place may hold every field of every place, by way of all variables that
+// there may be: more cannot come into sets. Its functions hold what each tells.
+func crowd(each func(letter, next string) string) (string, int) {
+	names := "a b c d e f g h i j k l"
+	main := "fn main(){var a;var b;b=&a.1;a=b;b=&a.2;a=b;b=&a.3;a=b;"
+	others := ""
+	for f := range api.MaxFuncs - 1 {
+		main += "b=" + letterName(f) + "(a" + strings.Repeat(" a", api.MaxVars-1) + ");"
+		others += "fn " + letterName(f) + "(" + names + "){"
+		for v := range api.MaxVars {
+			others += each(letterName(v), letterName((v+1)%api.MaxVars))
+		}
+		others += "}"
+	}
+	places := (api.MaxText - len(main) - len("}") - len(others)) / len("a=new;")
+	return main + strings.Repeat("a=new;", places) + "}" + others, places
+}
+
+func TestP1CrowdedSets(t *testing.T) {
+	for _, each := range []func(letter, next string) string{
+		func(letter, next string) string { return "*a=" + letter + ";" },
+		func(letter, next string) string { return "*" + letter + "=" + next + ";" },
+		func(letter, next string) string { return "*a=" + letter + ";" + letter + "=*l;" },
+		func(letter, next string) string { return "*" + letter + "=" + next + ";" + next + "=*" + letter + ";" },
+	} {
+		text, places := crowd(each)
+		result := analysed(t, text)
+		for _, place := range []int{1, places / 2, places} {
+			if list, fault := result.Field(place, 3); fault != api.OK || len(list) != places*api.Fields {
+				t.Errorf("P6: Analyse(%.200q): %d targets in %d.3, error %d, want %d", text, len(list), place, fault, places*api.Fields)
+			}
 		}
 	}
 }
@@ -107,19 +187,24 @@ func TestP1LongRuns(t *testing.T) {
 	}
 }
 
-// answer is what two calls answer; what a run has seen is one text in it, so
-// that answers can be held against each other.
+// answer is what the calls answer; what a run has seen, and what is in the
+// sets, is one text each in it, so that answers can be held against each other.
 type answer struct {
-	printed, seen string
-	end, steps    int
-	fault         api.Errno
-	place         int
+	printed, seen, told string
+	end, steps          int
+	fault               api.Errno
+	place               int
 }
 
-func ask(text string) answer {
+func ask(t *testing.T, text string) answer {
+	t.Helper()
 	printed, fault, place := Print(text)
 	trace, _, _ := Run(text, "1101", 50)
-	return answer{printed, strings.Join(trace.Seen, " "), trace.End, trace.Steps, fault, place}
+	told := ""
+	if result, _, _ := Analyse(text); result != nil {
+		told = strings.Join(facts(t, text, result), " ")
+	}
+	return answer{printed, strings.Join(trace.Seen, " "), told, trace.End, trace.Steps, fault, place}
 }
 
 // Whatever is written into a list that came out, no other one is changed, its
@@ -141,6 +226,87 @@ func TestP2SeenIsNewMemory(t *testing.T) {
 	}
 }
 
+// holder is a program in which several lists have several elements.
+const holder = "fn f() { } fn g() { } fn main() { var p; var q; var r; p = new; p = &q; p = @f; p = @g; p = @main; q = p; *p = p; r = (*p)(); r = (*q)(); }"
+
+// questions are what can be asked of its result.
+func questions(result *Result) []func() ([]string, api.Errno) {
+	return []func() ([]string, api.Errno){
+		func() ([]string, api.Errno) { return result.Points("main", "p") },
+		func() ([]string, api.Errno) { return result.Points("main", "q") },
+		func() ([]string, api.Errno) { return result.Points("main", "r") },
+		func() ([]string, api.Errno) { return result.Field(1, 0) },
+		func() ([]string, api.Errno) { return result.Field(1, 1) },
+		func() ([]string, api.Errno) { return result.Enters(1) },
+		func() ([]string, api.Errno) { return result.Enters(2) },
+	}
+}
+
+// Each question is asked right behind each other one, whose list is written
+// into; lists that are there already stay as they are.
+func TestP2ListsOfAResultAreNewMemory(t *testing.T) {
+	result, other := analysed(t, holder), analysed(t, holder)
+	var want, kept [][]string
+	for _, question := range questions(result) {
+		list, _ := question()
+		want = append(want, slices.Clone(list))
+		kept = append(kept, list)
+	}
+	if joined := strings.Join(want[0], " ") + "; " + strings.Join(want[5], " "); joined != "1.0 @f @g @main main.q; f g main" {
+		t.Fatalf("P7: %s", joined)
+	}
+	for first, before := range questions(result) {
+		for second, question := range questions(result) {
+			spoilt, _ := before()
+			later, _ := question()
+			spoil(spoilt)
+			_ = append(spoilt, "spoilt")
+			again, fault := question()
+			if fault != api.OK || !slices.Equal(later, want[second]) || !slices.Equal(again, want[second]) {
+				t.Errorf("P2: list %d is %q, then %q, when list %d was written into; want %q", second, later, again, first, want[second])
+			}
+		}
+	}
+	for i, question := range questions(other) {
+		if list, _ := question(); !slices.Equal(list, want[i]) || !slices.Equal(kept[i], want[i]) {
+			t.Errorf("P2: list %d is %q in another result, %q in one that was kept; want %q", i, list, kept[i], want[i])
+		}
+	}
+}
+
+// Results of several texts are there side by side.
+func TestP2ResultsStay(t *testing.T) {
+	var results []*Result
+	var want []string
+	for _, text := range corpus() {
+		result := analysed(t, text)
+		results = append(results, result)
+		want = append(want, strings.Join(facts(t, text, result), " "))
+	}
+	for i, text := range corpus() {
+		Run(text, "1", 100)
+		if got := strings.Join(facts(t, text, results[i]), " "); got != want[i] {
+			t.Errorf("P2: the result of %q tells %s, but %s at first", text, got, want[i])
+		}
+	}
+}
+
+func TestP2OneResultAtTheSameTime(t *testing.T) {
+	result := analysed(t, holder)
+	want := strings.Join(facts(t, holder, result), " ")
+	var all sync.WaitGroup
+	for range 8 {
+		all.Go(func() {
+			for range 50 {
+				if got := strings.Join(facts(t, holder, result), " "); got != want {
+					t.Errorf("P2: the result tells %s, want %s", got, want)
+				}
+			}
+		})
+	}
+	all.Wait()
+}
+
 func spoil(list []string) {
 	list = list[:cap(list)]
 	for i := range list {
@@ -158,15 +324,14 @@ func TestP2WhateverWasAskedBefore(t *testing.T) {
 	texts := manyTexts()
 	first := map[string]answer{}
 	for _, text := range texts {
-		first[text] = ask(text)
+		first[text] = ask(t, text)
 	}
 	for _, before := range texts {
 		for _, text := range texts {
-			ask(before)
+			ask(t, before)
 			Run(before, "1", 100)
-			Analyse(before)
-			if got := ask(text); got != first[text] {
-				t.Errorf("P2: Print and Run of %.60q = %v, behind %.60q, but %v at first", text, got, before, first[text])
+			if got := ask(t, text); got != first[text] {
+				t.Errorf("P2: the calls of %.60q = %v, behind %.60q, but %v at first", text, got, before, first[text])
 			}
 		}
 	}
@@ -176,12 +341,12 @@ func TestP2AtTheSameTime(t *testing.T) {
 	texts := manyTexts()
 	var all sync.WaitGroup
 	for _, text := range texts {
-		want := ask(text)
+		want := ask(t, text)
 		for range 4 {
 			all.Go(func() {
 				for range 50 {
-					if got := ask(text); got != want {
-						t.Errorf("P2: Print and Run of %.60q = %v, want %v", text, got, want)
+					if got := ask(t, text); got != want {
+						t.Errorf("P2: the calls of %.60q = %v, want %v", text, got, want)
 					}
 				}
 			})

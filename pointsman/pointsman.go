@@ -2,13 +2,16 @@
 package pointsman
 
 import (
+	"pointsman/analysis"
 	"pointsman/api"
 	"pointsman/plan"
 	"pointsman/runner"
 )
 
 // Result is what an analysis has found.
-type Result struct{}
+type Result struct {
+	sets analysis.Sets
+}
 
 // Print tells a program's text as it is written always (P4).
 func Print(text string) (string, api.Errno, int) {
@@ -30,20 +33,34 @@ func Run(text string, choices string, steps int) (api.Trace, api.Errno, int) {
 
 // Analyse analyses a program (P6).
 func Analyse(text string) (*Result, api.Errno, int) {
-	_, _, fault, place := readText(text)
-	return nil, fault, place
+	_, program, fault, place := readText(text)
+	if fault != api.OK {
+		return nil, fault, place
+	}
+	return &Result{analysis.Of(plan.Of(program))}, api.OK, 0
 }
 
 // Points tells what a variable may point to (P7).
 func (r *Result) Points(function string, variable string) ([]string, api.Errno) {
-	return nil, api.OK
+	return orNone(r.sets.Variable(function, variable))
 }
 
 // Field tells what a field of what a place has made may point to (P7).
-func (r *Result) Field(place int, field int) ([]string, api.Errno) { return nil, api.OK }
+func (r *Result) Field(place int, field int) ([]string, api.Errno) {
+	return orNone(r.sets.Field(place, field))
+}
 
 // Enters tells which functions a call may enter (P7).
-func (r *Result) Enters(call int) ([]string, api.Errno) { return nil, api.OK }
+func (r *Result) Enters(call int) ([]string, api.Errno) {
+	return orNone(r.sets.Call(call))
+}
+
+func orNone(list []string, there bool) ([]string, api.Errno) {
+	if !there {
+		return nil, api.ErrNone
+	}
+	return list, api.OK
+}
 
 // Reach tells which functions may be entered (P8).
 func (r *Result) Reach() []string { return nil }

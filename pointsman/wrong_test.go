@@ -30,8 +30,8 @@ func wantFault(t *testing.T, text string, fault api.Errno, place int) {
 	if e != fault || at != place {
 		t.Errorf("P3: Analyse(%.80q): %d, %d, want %d, %d", text, e, at, fault, place)
 	}
-	if e != api.OK && result != nil {
-		t.Errorf("P1: Analyse(%.80q) gives a result beside %d", text, e)
+	if (result == nil) != (e != api.OK) {
+		t.Errorf("P1: Analyse(%.80q) = %v beside %d", text, result, e)
 	}
 }
 
