@@ -15,25 +15,46 @@ type Sets struct {
 	program plan.Program // without steps
 	points  map[int]set  // of each cell the targets in its set
 	enters  map[int]set  // of each call through a pointer the functions it enters
+	reached set          // the functions that main comes to, main among them
 }
 
 // Of analyses a program.
 func Of(program plan.Program) Sets {
 	s := newSolver(program)
 	s.solve()
-	return Sets{program.WithoutSteps(), s.points, s.enters}
+	return Sets{program.WithoutSteps(), s.points, s.enters, s.reached()}
 }
 
 // Variable tells the targets in a variable's set, and whether there is such a
 // variable.
 func (s Sets) Variable(function, variable string) ([]string, bool) {
+	cell, there := s.cell(function, variable)
+	if !there {
+		return nil, false
+	}
+	return s.targets(cell), true
+}
+
+// Alias tells whether some target is in the sets of two variables, and whether
+// there are both.
+func (s Sets) Alias(function, variable, otherFunction, otherVariable string) (shared, there bool) {
+	one, oneThere := s.cell(function, variable)
+	other, otherThere := s.cell(otherFunction, otherVariable)
+	if !oneThere || !otherThere {
+		return false, false
+	}
+	return s.points[one].meets(s.points[other]), true
+}
+
+// cell tells the number of a variable, and whether there is such a one.
+func (s Sets) cell(function, variable string) (int, bool) {
 	for f, names := range s.program.Functions {
 		v := slices.Index(names.Variables, variable)
 		if names.Name == function && v >= 0 {
-			return s.targets(variableNumber(f, v)), true
+			return variableNumber(f, v), true
 		}
 	}
-	return nil, false
+	return 0, false
 }
 
 // Field tells the targets in the set of a place's field, and whether there is
@@ -52,12 +73,19 @@ func (s Sets) Call(call int) ([]string, bool) {
 	if !there {
 		return nil, false
 	}
+	return s.names(functions), true
+}
+
+// Reach tells the names of main and of all functions that it comes to.
+func (s Sets) Reach() []string { return s.names(s.reached) }
+
+func (s Sets) names(functions set) []string {
 	var names []string
 	for _, function := range functions.numbers() {
 		names = append(names, s.program.Functions[function].Name)
 	}
 	slices.Sort(names)
-	return names, true
+	return names
 }
 
 func (s Sets) targets(cell int) []string {

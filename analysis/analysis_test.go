@@ -48,8 +48,48 @@ func TestOf(t *testing.T) {
 	want("call 1", list, there, "g")
 	list, there = sets.Call(2)
 	want("call 2", list, there, "")
+	want("reached", sets.Reach(), true, "g main")
 	if len(program.Functions[1].Steps) != 6 {
 		t.Errorf("the program has lost its steps")
+	}
+}
+
+func TestAlias(t *testing.T) {
+	sets := Of(small())
+	for _, c := range []struct {
+		names         [4]string
+		shared, there bool
+	}{
+		{[4]string{"g", "x", "main", "q"}, true, true},
+		{[4]string{"g", "x", "main", "p"}, false, true},
+		{[4]string{"main", "p", "main", "p"}, true, true},
+		{[4]string{"g", "x", "g", "q"}, false, false},
+		{[4]string{"main", "x", "g", "x"}, false, false},
+		{[4]string{"h", "x", "h", "x"}, false, false},
+	} {
+		if shared, there := sets.Alias(c.names[0], c.names[1], c.names[2], c.names[3]); shared != c.shared || there != c.there {
+			t.Errorf("%q: %v, %v", c.names, shared, there)
+		}
+	}
+}
+
+// Of two functions one is called by its name; nothing calls the third, so what
+// that one calls is not reached either.
+func TestReach(t *testing.T) {
+	program := plan.Program{Main: 3, Calls: 1, Functions: []plan.Function{
+		{Name: "z"},
+		{Name: "a", Variables: []string{"x"}, Steps: []plan.Step{{Kind: syntax.Call, Source: 0, Next: 1}}},
+		{Name: "b", Variables: []string{"x"}, Steps: []plan.Step{{Kind: syntax.Call, Source: 4, Next: 1}}},
+		{Name: "main", Variables: []string{"x"}, Steps: []plan.Step{
+			{Kind: syntax.Return, Next: 4},
+			{Kind: syntax.TakeFunction, Source: 2, Next: 2},
+			{Kind: syntax.CallThrough, Number: 1, Arguments: []int{0}, Next: 3},
+			{Kind: syntax.Call, Source: 1, Next: 4},
+		}},
+		{Name: "c"},
+	}}
+	if got := strings.Join(Of(program).Reach(), " "); got != "a main z" {
+		t.Errorf("reached are %s", got)
 	}
 }
 

@@ -38,6 +38,16 @@ func (s set) take(other set) set {
 	return fresh
 }
 
+// meets tells whether some number is in both sets.
+func (s set) meets(other set) bool {
+	for word, ours := range s {
+		if ours&other[word] != 0 {
+			return true
+		}
+	}
+	return false
+}
+
 // numbers tells what is in a set, in no order. It is a list of its own, since
 // the set may grow while they are gone through.
 func (s set) numbers() []int {

@@ -54,6 +54,26 @@ func TestTake(t *testing.T) {
 	wantNumbers(t, "what is told is no part of the set", s, 0, 1, 5, 63, 64, 65, 700)
 }
 
+func TestMeets(t *testing.T) {
+	for _, c := range []struct {
+		one, other set
+		want       bool
+	}{
+		{set{}, set{}, false},
+		{nil, set{}, false},
+		{setOf(3), nil, false},
+		{setOf(3), setOf(3), true},
+		{setOf(3), setOf(4), false},
+		{setOf(3), setOf(3 + wordSize), false},
+		{setWith(0, 63, 700), setWith(1, 62, 64, 700), true},
+		{setWith(0, 63, 700), setWith(1, 62, 64, 701), false},
+	} {
+		if c.one.meets(c.other) != c.want || c.other.meets(c.one) != c.want {
+			t.Errorf("%v meets %v, want %v", c.one, c.other, c.want)
+		}
+	}
+}
+
 // Every target has a number of its own, and is found by it.
 func TestNumbers(t *testing.T) {
 	taken := map[int]plan.Target{}

@@ -3,6 +3,7 @@ package pointsman
 import (
 	"math"
 	"slices"
+	"strconv"
 	"strings"
 	"sync"
 	"testing"
@@ -48,6 +49,24 @@ func askResult(t *testing.T, text string, fault api.Errno, place int) {
 		lookAtList(t, text, list, e)
 		list, e = result.Points(name, name)
 		lookAtList(t, text, list, e)
+		lookAtAlias(t, text, result, "main", "a", "main", name)
+		lookAtAlias(t, text, result, name, "p", "main", name)
+		lookAtAlias(t, text, result, name, name, name, name)
+	}
+	if reach := result.Reach(); !slices.Contains(reach, "main") || !slices.IsSorted(reach) || len(reach) > api.MaxFuncs {
+		t.Errorf("P8: Reach of %.80q = %q", text, reach)
+	}
+}
+
+// lookAtAlias asks for what Alias tells of two variables, and holds its error
+// against those that Points tells of each.
+func lookAtAlias(t *testing.T, text string, result *Result, f, v, g, w string) {
+	t.Helper()
+	_, one := result.Points(f, v)
+	_, other := result.Points(g, w)
+	want := max(one, other) // OK is below all others
+	if is, fault := result.Alias(f, v, g, w); fault != want || fault != api.OK && is {
+		t.Errorf("P8: a result of %.80q: Alias(%.20q, %.20q, %.20q, %.20q) = %v, %d, want %d", text, f, v, g, w, is, fault, want)
 	}
 }
 
@@ -132,8 +151,16 @@ func TestP1OtherCalls(t *testing.T) {
 			list, fault := result.Enters(n)
 			lookAtList(t, text, list, fault)
 		}
-		result.Reach()
-		result.Alias("", "", "main", "a")
+		strange := []string{"", "main", "a", "p", "é", "\xff", "\x00", "main.p", "@main", "1.0", text, strings.Repeat("main", 1<<16)}
+		for _, f := range strange {
+			for _, v := range strange {
+				for _, g := range strange {
+					lookAtAlias(t, text, result, f, v, g, "p")
+					lookAtAlias(t, text, result, "main", "p", f, v)
+					lookAtAlias(t, text, result, f, "p", g, v)
+				}
+			}
+		}
 	}
 }
 
@@ -170,6 +197,12 @@ func TestP1CrowdedSets(t *testing.T) {
 				t.Errorf("P6: Analyse(%.200q): %d targets in %d.3, error %d, want %d", text, len(list), place, fault, places*api.Fields)
 			}
 		}
+		if reach := result.Reach(); len(reach) != api.MaxFuncs {
+			t.Errorf("P8: Reach of %.200q = %q", text, reach)
+		}
+		if is, fault := result.Alias("main", "a", "a", "l"); !is || fault != api.OK {
+			t.Errorf("P8: Analyse(%.200q): Alias of main.a and a.l = %v, %d", text, is, fault)
+		}
 	}
 }
 
@@ -187,13 +220,30 @@ func TestP1LongRuns(t *testing.T) {
 	}
 }
 
-// answer is what the calls answer; what a run has seen, and what is in the
-// sets, is one text each in it, so that answers can be held against each other.
+// answer is what the calls answer; what a run has seen, and what a result
+// tells, is one text each in it, so that answers can be held against each other.
 type answer struct {
 	printed, seen, told string
 	end, steps          int
 	fault               api.Errno
 	place               int
+}
+
+// allTold asks a result for all that it tells: the sets, what is reached, and
+// of every two variables whether they share a target.
+func allTold(t *testing.T, text string, result *Result) string {
+	t.Helper()
+	all := append(facts(t, text, result), "reached:")
+	all = append(all, result.Reach()...)
+	all = append(all, "shared:")
+	variables := variablesOf(tokensOf(t, text))
+	for _, one := range variables {
+		for _, other := range variables {
+			is, fault := result.Alias(one[0], one[1], other[0], other[1])
+			all = append(all, strconv.FormatBool(is), strconv.Itoa(int(fault)))
+		}
+	}
+	return strings.Join(all, " ")
 }
 
 func ask(t *testing.T, text string) answer {
@@ -202,7 +252,7 @@ func ask(t *testing.T, text string) answer {
 	trace, _, _ := Run(text, "1101", 50)
 	told := ""
 	if result, _, _ := Analyse(text); result != nil {
-		told = strings.Join(facts(t, text, result), " ")
+		told = allTold(t, text, result)
 	}
 	return answer{printed, strings.Join(trace.Seen, " "), told, trace.End, trace.Steps, fault, place}
 }
@@ -239,6 +289,7 @@ func questions(result *Result) []func() ([]string, api.Errno) {
 		func() ([]string, api.Errno) { return result.Field(1, 1) },
 		func() ([]string, api.Errno) { return result.Enters(1) },
 		func() ([]string, api.Errno) { return result.Enters(2) },
+		func() ([]string, api.Errno) { return result.Reach(), api.OK },
 	}
 }
 
@@ -252,7 +303,7 @@ func TestP2ListsOfAResultAreNewMemory(t *testing.T) {
 		want = append(want, slices.Clone(list))
 		kept = append(kept, list)
 	}
-	if joined := strings.Join(want[0], " ") + "; " + strings.Join(want[5], " "); joined != "1.0 @f @g @main main.q; f g main" {
+	if joined := strings.Join(want[0], " ") + "; " + strings.Join(want[5], " ") + "; " + strings.Join(want[7], " "); joined != "1.0 @f @g @main main.q; f g main; f g main" {
 		t.Fatalf("P7: %s", joined)
 	}
 	for first, before := range questions(result) {
@@ -266,6 +317,9 @@ func TestP2ListsOfAResultAreNewMemory(t *testing.T) {
 				t.Errorf("P2: list %d is %q, then %q, when list %d was written into; want %q", second, later, again, first, want[second])
 			}
 		}
+	}
+	if got, untouched := allTold(t, holder, result), allTold(t, holder, other); got != untouched {
+		t.Errorf("P2: a result whose lists were written into tells %s, another one %s", got, untouched)
 	}
 	for i, question := range questions(other) {
 		if list, _ := question(); !slices.Equal(list, want[i]) || !slices.Equal(kept[i], want[i]) {
@@ -281,11 +335,11 @@ func TestP2ResultsStay(t *testing.T) {
 	for _, text := range corpus() {
 		result := analysed(t, text)
 		results = append(results, result)
-		want = append(want, strings.Join(facts(t, text, result), " "))
+		want = append(want, allTold(t, text, result))
 	}
 	for i, text := range corpus() {
 		Run(text, "1", 100)
-		if got := strings.Join(facts(t, text, results[i]), " "); got != want[i] {
+		if got := allTold(t, text, results[i]); got != want[i] {
 			t.Errorf("P2: the result of %q tells %s, but %s at first", text, got, want[i])
 		}
 	}
@@ -293,12 +347,12 @@ func TestP2ResultsStay(t *testing.T) {
 
 func TestP2OneResultAtTheSameTime(t *testing.T) {
 	result := analysed(t, holder)
-	want := strings.Join(facts(t, holder, result), " ")
+	want := allTold(t, holder, result)
 	var all sync.WaitGroup
 	for range 8 {
 		all.Go(func() {
 			for range 50 {
-				if got := strings.Join(facts(t, holder, result), " "); got != want {
+				if got := allTold(t, holder, result); got != want {
 					t.Errorf("P2: the result tells %s, want %s", got, want)
 				}
 			}

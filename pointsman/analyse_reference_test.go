@@ -1,12 +1,11 @@
 package pointsman
 
 import (
+	"maps"
 	"slices"
 	"strconv"
 	"strings"
 	"testing"
-
-	"pointsman/api"
 )
 
 // The tests here hold the sets against a second analysis that shares nothing
@@ -27,7 +26,7 @@ type refAnalysis struct {
 	grown      bool
 }
 
-func referenceFacts(tokens []string) []string {
+func analyseByReference(tokens []string) *refAnalysis {
 	a := &refAnalysis{names: map[string][]string{}, sets: map[string]map[string]bool{}, grown: true}
 	a.collect(tokens)
 	for a.grown {
@@ -36,6 +35,10 @@ func referenceFacts(tokens []string) []string {
 			a.rule(s)
 		}
 	}
+	return a
+}
+
+func (a *refAnalysis) facts() []string {
 	var all []string
 	for cell, targets := range a.sets {
 		for target := range targets {
@@ -44,6 +47,27 @@ func referenceFacts(tokens []string) []string {
 	}
 	slices.Sort(all)
 	return all
+}
+
+// reach does not follow calls: it goes through all statements for callers that
+// are in already, until no function comes in.
+func (a *refAnalysis) reach() []string {
+	in := map[string]int{"main": 1}
+	for before := 0; before < len(in); {
+		before = len(in)
+		for _, s := range a.statements {
+			switch {
+			case in[s.function] == 0:
+			case count(s.words, "= ( *") > 0:
+				for _, name := range a.all("!" + strconv.Itoa(s.number)) {
+					in[name]++
+				}
+			case count(s.words, "(") > 0:
+				in[s.words[2]]++
+			}
+		}
+	}
+	return slices.Sorted(maps.Keys(in))
 }
 
 func (a *refAnalysis) collect(tokens []string) {
@@ -238,11 +262,7 @@ func pick(d *dice, often []int) int {
 // tells how many facts there are.
 func compareFacts(t *testing.T, text string) int {
 	t.Helper()
-	printed, fault, place := Print(text)
-	if fault != api.OK {
-		t.Fatalf("Print(%q): %d, %d", text, fault, place)
-	}
-	got, want := facts(t, text, analysed(t, text)), referenceFacts(strings.Fields(printed))
+	got, want := facts(t, text, analysed(t, text)), analyseByReference(tokensOf(t, text)).facts()
 	if !slices.Equal(got, want) {
 		t.Fatalf("P6: of %q:\n got %q\nwant %q", text, got, want)
 	}
@@ -264,30 +284,5 @@ func TestP6AgainstTheReference(t *testing.T) {
 	}
 	if rich < 200 || empty < 20 {
 		t.Errorf("the programs show too little: %d with much in their sets, %d with nothing", rich, empty)
-	}
-}
-
-// Whatever a run sees is in the sets.
-func TestP6HoldsWhatRunsSee(t *testing.T) {
-	d := &dice{13}
-	seen, beyond := 0, 0
-	for range 1500 {
-		text := writeProgram(d)
-		told := facts(t, text, analysed(t, text))
-		for range 4 {
-			trace, _, _ := Run(text, writeChoices(d), api.MaxSteps)
-			for _, sight := range trace.Seen {
-				if _, is := slices.BinarySearch(told, sight); !is {
-					t.Fatalf("P6: a run of %q sees %s, but told are %q", text, sight, told)
-				}
-			}
-			seen += len(trace.Seen)
-			if len(trace.Seen) < len(told) {
-				beyond++
-			}
-		}
-	}
-	if seen < 10000 || beyond < 1000 {
-		t.Errorf("the runs show too little: %d seen, %d times less than is told", seen, beyond)
 	}
 }

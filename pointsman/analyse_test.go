@@ -157,8 +157,10 @@ func TestP6DocumentedExamples(t *testing.T) {
 	wantFacts(t, "fn id(x) { return x; } fn main() { var f; var p; var q; f = @id; p = new; q = (*f)(p); f = id(f); }",
 		"main.q>1.0 main.q>@id main.f>1.0 main.f>@id main.p>1.0 id.x>1.0 id.x>@id !1>id")
 	// the one in README.md
-	wantFacts(t, "fn f(x) { return x; } fn main() { var p; var q; p = @f; q = new; q = (*p)(q); *q = p; }",
-		"main.p>@f main.q>1.0 f.x>1.0 1.0>@f !1>f")
+	text := "fn f(x) { return x; } fn main() { var p; var q; p = @f; q = new; q = (*p)(q); *q = p; }"
+	wantFacts(t, text, "main.p>@f main.q>1.0 f.x>1.0 1.0>@f !1>f")
+	wantReach(t, text, "f main")
+	wantAlias(t, analysed(t, text), "main", "q", "f", "x", true, api.OK)
 }
 
 // What is far behind comes ahead all the same, whatever stands between.

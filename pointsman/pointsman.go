@@ -63,9 +63,13 @@ func orNone(list []string, there bool) ([]string, api.Errno) {
 }
 
 // Reach tells which functions may be entered (P8).
-func (r *Result) Reach() []string { return nil }
+func (r *Result) Reach() []string { return r.sets.Reach() }
 
 // Alias tells whether two variables may point to the same (P8).
 func (r *Result) Alias(f string, v string, g string, w string) (bool, api.Errno) {
-	return false, api.OK
+	shared, there := r.sets.Alias(f, v, g, w)
+	if !there {
+		return false, api.ErrNone
+	}
+	return shared, api.OK
 }

@@ -25,6 +25,7 @@ type refRun struct {
 	choices             string
 	limit, done, inside int
 	seen                map[string]int
+	entered             map[string]int
 }
 
 type refEnd int
@@ -35,10 +36,12 @@ type refFrame struct {
 	variables map[string]*refCell
 }
 
-func referenceRun(tokens []string, choices string, steps int) (trace api.Trace) {
-	r := &refRun{tokens: tokens, choices: choices, limit: min(max(steps, 0), 5000), seen: map[string]int{}}
+// referenceRun tells a run, and the functions that it enters.
+func referenceRun(tokens []string, choices string, steps int) (trace api.Trace, entered []string) {
+	r := &refRun{tokens: tokens, choices: choices, limit: min(max(steps, 0), 5000), seen: map[string]int{}, entered: map[string]int{}}
 	tell := func(end int) {
 		trace = api.Trace{End: end, Steps: r.done, Seen: slices.Sorted(maps.Keys(r.seen))}
+		entered = slices.Sorted(maps.Keys(r.entered))
 	}
 	defer func() {
 		if thrown := recover(); thrown != nil {
@@ -106,6 +109,7 @@ func (r *refRun) enter(name string, arguments []any) any {
 		panic(refEnd(api.Deep))
 	}
 	r.inside++
+	r.entered[name]++
 	frame := refFrame{name, map[string]*refCell{}}
 	head := r.head(name)
 	names := r.parenthesised(head)
@@ -225,6 +229,16 @@ func (r *refRun) call(frame refFrame, i int, name string, open int) {
 		arguments = append(arguments, frame.variables[argument].holds)
 	}
 	r.get(frame.variables[r.tokens[i]], r.enter(name, arguments))
+}
+
+// tokensOf tells the tokens of a text without faults.
+func tokensOf(t *testing.T, text string) []string {
+	t.Helper()
+	printed, fault, place := Print(text)
+	if fault != api.OK {
+		t.Fatalf("Print(%q): %d, %d", text, fault, place)
+	}
+	return strings.Fields(printed)
 }
 
 // count counts how often words stand among the tokens one behind the other.
@@ -375,13 +389,9 @@ func TestP5AgainstTheReference(t *testing.T) {
 	ends, long, many := [5]int{}, 0, 0
 	for range 6000 {
 		text, choices := writeProgram(d), writeChoices(d)
-		printed, fault, place := Print(text)
-		if fault != api.OK {
-			t.Fatalf("Print(%q): %d, %d", text, fault, place)
-		}
-		tokens := strings.Fields(printed)
+		tokens := tokensOf(t, text)
 		for _, steps := range []int{5000, d.below(40), -1} {
-			want := referenceRun(tokens, choices, steps)
+			want, _ := referenceRun(tokens, choices, steps)
 			got, fault, place := Run(text, choices, steps)
 			if fault != api.OK || place != 0 || got.End != want.End || got.Steps != want.Steps || !slices.Equal(got.Seen, want.Seen) {
 				t.Fatalf("P5: Run(%q, %q, %d) = %v, want %v", text, choices, steps, got, want)
