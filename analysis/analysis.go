@@ -22,7 +22,8 @@ type Sets struct {
 func Of(program plan.Program) Sets {
 	s := newSolver(program)
 	s.solve()
-	return Sets{program.WithoutSteps(), s.points, s.enters, s.reached()}
+	reached := s.reached()
+	return Sets{program.WithoutSteps(), s.points, s.enters, reached}
 }
 
 // Variable tells the targets in a variable's set, and whether there is such a

@@ -55,7 +55,10 @@ func (b *builder) block(block syntax.Block, after int) int {
 	return first
 }
 
-// statement lays out a statement that goes on at after, and its blocks.
+// statement lays out a statement that goes on at after, and its blocks. Where a
+// block begins is noted on a line of its own: laying it out moves the row of
+// steps, and Go leaves open whether one assignment would look for the row ahead
+// of that.
 func (b *builder) statement(statement syntax.Statement, after int) {
 	at := len(b.steps)
 	step := b.step(statement)
@@ -63,12 +66,15 @@ func (b *builder) statement(statement syntax.Statement, after int) {
 	b.steps = append(b.steps, step)
 	switch statement.Kind {
 	case syntax.Choose:
-		b.steps[at].Taken = b.block(statement.Blocks[0], after)
+		taken := b.block(statement.Blocks[0], after)
+		b.steps[at].Taken = taken
 		for _, other := range statement.Blocks[1:] {
-			b.steps[at].Next = b.block(other, after)
+			next := b.block(other, after)
+			b.steps[at].Next = next
 		}
 	case syntax.Repeat:
-		b.steps[at].Taken = b.block(statement.Blocks[0], at)
+		taken := b.block(statement.Blocks[0], at)
+		b.steps[at].Taken = taken
 	}
 }
 

@@ -25,7 +25,8 @@ func Run(program plan.Program, choices string, steps int) api.Trace {
 		m.leaveEnded()
 		done++
 	}
-	return api.Trace{End: m.end, Steps: done, Seen: m.seen()}
+	seen := m.seen()
+	return api.Trace{End: m.end, Steps: done, Seen: seen}
 }
 
 // machine is a run as far as it has come.
